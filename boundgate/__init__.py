@@ -1,0 +1,1 @@
+"""Boundgate: small programs let into a house, with tables that show that they never fault."""
