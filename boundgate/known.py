@@ -53,27 +53,22 @@ def alike_bits(least, most):
 
 
 def settled_ends(least, most, low, high, wide):
-    """Both pairs of ends, each cut by the other one; None where a pair is exchanged."""
-    if least > most or low > high:
-        return None
+    """Both pairs of ends, each cut by the other one."""
     if least >> (wide - 1) == most >> (wide - 1):
         low = max(low, signed(least, wide=wide))
         high = min(high, signed(most, wide=wide))
-    if low > high:
-        return None
-    if low >= 0 or high < 0:
+    if (low < 0) == (high < 0):
         least = max(least, low & greatest(wide))
         most = min(most, high & greatest(wide))
-    if least > most:
-        return None
     return (least, most, low, high)
 
 
 def settled_once(known, wide):
     """What the rules make of a known number, each done once; None where nothing can be held."""
     value, unsure, least, most, low, high = known
+    # Ends are just cut, so a pair that is exchanged stays so: it is enough to look at them here.
     ends = settled_ends(max(least, value), min(most, value | unsure), low, high, wide)
-    if ends is None:
+    if ends[0] > ends[1] or ends[2] > ends[3]:
         return None
     bits = met_bits((value, unsure), alike_bits(ends[0], ends[1]))
     if bits is None:
@@ -83,8 +78,7 @@ def settled_once(known, wide):
 
 def settled(known, *, wide=WIDE):
     """What a known number comes to by the rules, None where by these nothing can be held."""
-    # Each round but the last makes some bit sure or cuts an end by one: after the ends have cut one
-    # another just a new sure bit turns more, so there are few rounds beside the width's.
+    # There are few rounds: where the ends have cut one another, just a new sure bit turns more.
     ahead = known
     turned = settled_once(ahead, wide)
     while turned is not None and turned != ahead:
