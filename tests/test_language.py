@@ -26,6 +26,16 @@ BARRED_NAMES = set(
     "compile copyright credits delattr dir eval exec exit gc getattr globals hasattr help id importlib license "
     "locals methodcaller os quit setattr sys type vars".split()
 )
+METHODS = set(
+    "append clear copy count endswith extend find get index insert isalnum isalpha isdigit islower isspace isupper "
+    "items join keys ljust lower lstrip partition pop remove replace reverse rfind rjust rpartition rsplit rstrip "
+    "setdefault split splitlines startswith strip update upper values zfill bit_length title capitalize swapcase "
+    "casefold center expandtabs removeprefix removesuffix rindex isascii isdecimal isnumeric istitle isidentifier "
+    "isprintable add discard".split()
+)
+LAZY_CALLS = {"zip", "enumerate", "reversed", "range"}
+LAZY_METHODS = {"items", "keys", "values"}
+TAKERS = {"list", "tuple", "dict", "sorted", "sum", "any", "all", "enumerate", "zip", "min", "max"}
 DOUBLE = re.compile(r"__[a-z]+__")
 
 
@@ -126,6 +136,31 @@ class Names(unittest.TestCase):
             self.assertEqual(len(names), len(set(names)), path)
 
 
+    def test_no_variable_has_the_name_of_an_import_or_a_class(self):
+        for path, tree in trees():
+            outside = [node.name for node in tree.body if isinstance(node, ast.ClassDef)]
+            for node in tree.body:
+                if isinstance(node, ast.ImportFrom):
+                    outside += [alias.asname or alias.name for alias in node.names]
+            for function in ast.walk(tree):
+                if isinstance(function, ast.FunctionDef):
+                    inside = bound_names(function)
+                    inside.remove(function.name)
+                    self.assertEqual(set(inside) & set(outside), set(), (path, function.name))
+
+    def test_no_name_is_a_method_and_an_attribute(self):
+        methods, stored = set(), set()
+        for _, tree in trees():
+            for node in ast.walk(tree):
+                if isinstance(node, ast.ClassDef):
+                    methods |= {method.name for method in node.body if isinstance(method, ast.FunctionDef)}
+                elif isinstance(node, ast.Attribute) and isinstance(node.ctx, ast.Store):
+                    stored.add(node.attr)
+        self.assertEqual(methods & stored, set())
+        for path, node in nodes(ast.Attribute):
+            self.assertIn(node.attr, methods | stored | METHODS, (path, node.lineno))
+
+
 class Imports(unittest.TestCase):
     def test_from_the_very_file_at_the_top(self):
         tops = {path.stem: defined_at_top(tree) for path, tree in trees()}
@@ -173,6 +208,23 @@ class Code(unittest.TestCase):
         for path, node in nodes(ast.BinOp):
             if isinstance(node.op, ast.Pow):
                 self.assertIsInstance(node.right, ast.Constant, (path, node.lineno))
+
+    def test_what_is_iterated_is_iterated_at_once(self):
+        for path, tree in trees():
+            fine = []
+            for node in ast.walk(tree):
+                if isinstance(node, (ast.For, ast.comprehension)):
+                    fine.append(node.iter)
+                elif isinstance(node, ast.Call) and isinstance(node.func, ast.Name) and node.func.id in TAKERS:
+                    fine += node.args[:1]
+            for node in ast.walk(tree):
+                if isinstance(node, ast.Call):
+                    plain = isinstance(node.func, ast.Name) and node.func.id in LAZY_CALLS
+                    method = isinstance(node.func, ast.Attribute) and node.func.attr in LAZY_METHODS
+                    if plain or method:
+                        self.assertIn(node, fine, (path, node.lineno))
+                elif isinstance(node, ast.GeneratorExp):
+                    self.assertIn(node, fine, (path, node.lineno))
 
     def test_is_stands_with_none_true_and_false(self):
         for path, node in nodes(ast.Compare):

@@ -505,6 +505,10 @@ class Refusals(unittest.TestCase):
                 with self.assertRaises(NoWord) as caught:
                     sharpened(word, just(1), just(2), truth=truth)
                 self.assertIs(type(caught.exception), NoWord)
+                with self.assertRaises(NoWord):
+                    sharpened(word, all_of(), span(1, 2), truth=truth)
+                with self.assertRaises(NoWord):
+                    sharpened(word, (0, 0, 5, 9, 5, 9), just(1), truth=truth)
 
     def test_what_is_handed_in_stays_as_it_is(self):
         for thing in ([0, 0], [["plus"], {}], {"left": [0]}, ("same", [0])):
