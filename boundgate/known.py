@@ -40,9 +40,9 @@ def holds(known, worth, *, wide=WIDE):
 def lies_within(one, other):
     """Whether one's bits, least and most, low and high lie within the other one's."""
     return (
-        bits_within(one[:2], other[:2])
-        and other[2] <= one[2] and one[3] <= other[3]
+        other[2] <= one[2] and one[3] <= other[3]
         and other[4] <= one[4] and one[5] <= other[5]
+        and bits_within(one[:2], other[:2])
     )
 
 

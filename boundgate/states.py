@@ -81,10 +81,14 @@ def thing_within(one, other, length):
 
 def state_within(one, other):
     """Whether one state lies within the other one."""
-    if one[2] != other[2] or not lies_within(one[3], other[3]):
+    # A walk asks this very often of states that are mostly the same, so what is equal is passed over.
+    length = one[3]
+    if one[2] != other[2] or (length != other[3] and not lies_within(length, other[3])):
         return False
-    things, others = one[0] + one[1], other[0] + other[1]
-    return all(thing_within(first, second, one[3]) for first, second in zip(things, others))
+    for first, second in zip(one[0] + one[1], other[0] + other[1]):
+        if first != second and not thing_within(first, second, length):
+            return False
+    return True
 
 
 def longer_choices(choice, ask, numbers):

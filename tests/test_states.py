@@ -9,6 +9,7 @@ from boundgate import states as module
 from boundgate.known import all_of, just, settled, span
 from boundgate.runner import Runner
 from boundgate.states import first_state, is_state, state_holds, state_within
+from tests.drawn_states import right_state
 from tests.plain import CONTRACT, SHELVES, long_program
 from tests.things import cost, drawn_known, odd_things, shape
 
@@ -248,40 +249,6 @@ class StateWithin(unittest.TestCase):
             self.assertIs(state_within(one, one), True)
             one = turned(one, 0, (LENGTH,) + one[0][1:])
             self.assertIs(state_within(one, other), within(number(known[2]), number(known[1]), ALL))
-
-
-def known_of(source, value, names, many):
-    """Something that is known of what a box or cell has, and right; names: ask by asking."""
-    if value is None or source.random() < 0.1:
-        return UNSET
-    if value == ("number", many) and source.random() < 0.5:
-        return LENGTH
-    if value[0] == "room":
-        return ("room", names[value[1]], around(source, value[2]))
-    return (value[0], around(source, value[1]))
-
-
-def around(source, worth):
-    """A known number that holds a worth."""
-    least, most = source.choice(((worth, worth), (0, 65535), (max(0, worth - 2), min(65535, worth + 3))))
-    known = span(least, most)
-    return settled((known[0], known[1], least, most, known[4], known[5]))
-
-
-def right_state(source, runner):
-    """A state that holds what a Runner tells: its askings have other numbers, and some asks are of nothing."""
-    lent = runner.lent()
-    numbers = sorted(source.sample(range(4), len(lent)))
-    order = source.sample(lent, len(lent))
-    names = {asking: ask for ask, (asking, _) in zip(numbers, order)}
-    asks = [(ask, shelf, True) for ask, (_, shelf) in zip(numbers, order)]
-    if len(lent) < 4 and source.random() < 0.5:
-        free = source.choice([ask for ask in range(4) if ask not in numbers])
-        asks = sorted(asks + [(free, source.choice(("rooms", "halls")), False)])
-    many = len(runner.given())
-    boxes = tuple(known_of(source, value, names, many) for value in runner.boxes())
-    pile = tuple(known_of(source, value, names, many) for value in runner.pile())
-    return (boxes, pile, tuple(asks), around(source, many))
 
 
 class StateHolds(unittest.TestCase):
